@@ -1,0 +1,3 @@
+"""The limits of the package."""
+
+MOST = 500
