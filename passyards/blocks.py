@@ -47,6 +47,13 @@ def blocks(line, many):
     return found
 
 
+def blocks_at(line, many):
+    """For each place, the ascending list of the blocks of which a train can be brought there."""
+    found = blocks(line, many)
+    return [[block for block, (first, last) in enumerate(found) if low <= last and first < high]
+            for low, high in spans(line, many)]
+
+
 def groups(line, standing):
     """The list of the GROUPS, block by block."""
     row = order(line, standing)

@@ -26,6 +26,18 @@ def is_line(thing):
     return isinstance(thing, tuple) and len(thing) >= 1 and all([is_place(part) for part in thing])
 
 
+def is_exactly(thing, value):
+    """Whether thing equals a value of numbers and tuples, and is of the same kind at each depth.
+
+    Python's own comparison takes True for 1, and thing may hold it.
+    """
+    if not isinstance(value, tuple):
+        return is_number(thing) and thing == value
+    if not isinstance(thing, tuple) or len(thing) != len(value):
+        return False
+    return all([is_exactly(part, its) for part, its in zip(thing, value)])
+
+
 def may_hold(place, thing):
     """Whether thing is a tuple of TRAINs that the place can hold, but for trains that occur twice."""
     kind, size = place
@@ -62,6 +74,11 @@ def place_of(standing, train):
         if train in held:
             return place
     raise NoTrain(train)
+
+
+def copied(standing):
+    """The standing in tuples of its own, whatever lists stand for tuples in it."""
+    return tuple([tuple(held) for held in standing])
 
 
 def counts(standing):

@@ -1,5 +1,16 @@
 """The moves of point [5] by a plain search, which the tests compare the formulas with."""
 
+import itertools
+
+from passyards.lines import capacity
+
+
+def small_lines():
+    """Lines of up to three places of sizes up to 3, not too large to be searched."""
+    places = [(kind, size) for kind in ("track", "yard") for size in (1, 2, 3)]
+    return [line for length in (1, 2, 3) for line in itertools.product(places, repeat=length)
+            if length < 3 or capacity(line) <= 5]
+
 
 def as_listed(kind, held):
     """The trains of a place as a standing lists them."""
@@ -31,6 +42,15 @@ def steps(line, standing):
     return [after for after in found if after is not None]
 
 
+def played(line, standing, row):
+    """The standing after the moves of the row, or None if one of them is not possible."""
+    for train, side in row:
+        if standing is None or not any(train in held for held in standing):
+            return None
+        standing = step(line, standing, where(standing, train), train, 1 if side == "right" else -1)
+    return standing
+
+
 def reached(line, standing):
     """The set of all standings to which this one leads."""
     found = {standing}
@@ -53,3 +73,40 @@ def fillings(line, row):
         held = as_listed(kind, row[:many])
         found += [(held,) + rest for rest in fillings(line[1:], row[many:])]
     return found
+
+
+def every_standing(line, many):
+    """All standings of the trains 0, 1, .., many - 1."""
+    found = {standing for row in itertools.permutations(range(many)) for standing in fillings(line, row)}
+    return sorted(found)
+
+
+def lots(line, many):
+    """All standings of so many trains, parted into the sets that lead to one another."""
+    rest = set(every_standing(line, many))
+    found = []
+    while rest:
+        lot = reached(line, min(rest))
+        found.append(lot)
+        rest -= lot
+    return found
+
+
+def where(standing, train):
+    """The place in which the train stands."""
+    return [train in held for held in standing].index(True)
+
+
+def strictly_ahead(line, standing, one, other):
+    """Whether one is strictly ahead of other, as point [9] says it."""
+    at, its = where(standing, one), where(standing, other)
+    if at != its:
+        return at < its
+    held = standing[at]
+    return line[at][0] == "track" and held.index(one) < held.index(other)
+
+
+def met(line, standing, one, other):
+    """Whether the two trains stand in one yard."""
+    at = where(standing, one)
+    return at == where(standing, other) and line[at][0] == "yard"

@@ -1,18 +1,10 @@
-import itertools
 import unittest
 
-from passyards.blocks import block_of, blocks, groups, joints, order
+from passyards.blocks import block_of, blocks, blocks_at, groups, joints, order
 from passyards.errors import NoTrain
 from passyards.lines import capacity, place_of, trains
 from samples import LINE, START, WIDE, WIDE_START, as_lists
-from search import fillings, reached
-
-
-def small_lines():
-    """Lines of up to three places of sizes up to 3, not too large to be searched."""
-    places = [(kind, size) for kind in ("track", "yard") for size in (1, 2, 3)]
-    return [line for length in (1, 2, 3) for line in itertools.product(places, repeat=length)
-            if length < 3 or capacity(line) <= 5]
+from search import every_standing, fillings, reached, small_lines
 
 
 def searched_joints(line, standings):
@@ -136,6 +128,14 @@ class Blocks(unittest.TestCase):
         self.assertEqual(blocks(LINE, 4), [(0, 0), (1, 3)])
 
 
+class BlocksAt(unittest.TestCase):
+    def test_each_place(self):
+        self.assertEqual(blocks_at(LINE, 4), [[0, 1], [1], [1]])
+        self.assertEqual(blocks_at(LINE, 5), [[0, 1], [2], [3]])
+        self.assertEqual(blocks_at(LINE, 0), [[], [], []])
+        self.assertEqual(blocks_at(WIDE, 30), [[0]] * 16)
+
+
 class Groups(unittest.TestCase):
     def test_example(self):
         self.assertEqual(groups(LINE, START), [(1,), (2, 3, 4)])
@@ -193,9 +193,7 @@ class AgainstASearch(unittest.TestCase):
     def test_the_groups_tell_which_standing_leads_to_which(self):
         for line in small_lines():
             for many in range(min(capacity(line), 4) + 1):
-                every = {standing for row in itertools.permutations(range(many))
-                         for standing in fillings(line, row)}
-                self.check_lots(line, every)
+                self.check_lots(line, every_standing(line, many))
 
     def check_lots(self, line, every):
         by_groups = {}

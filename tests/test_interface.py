@@ -1,13 +1,23 @@
 import inspect
 import unittest
 
-from passyards import blocks, errors, limits, lines
+from passyards import blocks, errors, leading, limits, lines, moves, reach, sightings
 
 FUNCTIONS = {
     lines: {"is_line": ["thing"], "is_standing": ["line", "thing"], "capacity": ["line"], "trains": ["standing"],
             "place_of": ["standing", "train"], "counts": ["standing"]},
     blocks: {"order": ["line", "standing"], "joints": ["line", "many"], "blocks": ["line", "many"],
              "groups": ["line", "standing"], "block_of": ["line", "standing", "train"]},
+    moves: {"can_move": ["line", "standing", "train", "side"], "moves": ["line", "standing"],
+            "moved": ["line", "standing", "move"], "run": ["line", "standing", "row"], "back": ["row"]},
+    leading: {"leads": ["line", "one", "other"], "bar": ["line", "one", "other"],
+              "shows_bar": ["line", "one", "other", "thing"], "row_to": ["line", "one", "other"],
+              "shows_row": ["line", "one", "other", "thing"]},
+    reach: {"places_of": ["line", "standing", "train"], "may_meet": ["line", "standing", "one", "other"],
+            "ever_ahead": ["line", "standing", "one", "other"]},
+    sightings: {"fits": ["line", "many", "sightings"], "overfull": ["line", "many", "sightings"],
+                "shows_run": ["line", "many", "sightings", "thing"],
+                "blocks_for": ["line", "many", "sightings", "train"]},
 }
 
 
@@ -26,8 +36,9 @@ class Interface(unittest.TestCase):
                         self.assertIs(parameter.default, inspect.Parameter.empty)
 
     def test_modules_have_their_names(self):
-        self.assertEqual([module.__name__ for module in (blocks, errors, limits, lines)],
-                         ["passyards.blocks", "passyards.errors", "passyards.limits", "passyards.lines"])
+        self.assertEqual([module.__name__ for module in (errors, limits, *FUNCTIONS)],
+                         ["passyards." + name for name in ("errors", "limits", "lines", "blocks", "moves", "leading",
+                                                           "reach", "sightings")])
 
 
 if __name__ == "__main__":

@@ -63,6 +63,20 @@ class Language(unittest.TestCase):
             self.assertNotIsInstance(node.value, (float, complex))
             self.assertNotIn("%", str(node.value))
 
+    def test_local_names_are_none_of_the_imports_and_classes(self):
+        for name, tree in TREES.items():
+            taken = {part.name for part in tree.body if isinstance(part, ast.ClassDef)}
+            taken |= {alias.name for part in tree.body if isinstance(part, ast.ImportFrom) for alias in part.names}
+            local = {node.id for node in ast.walk(tree) if isinstance(node, ast.Name)
+                     and not isinstance(node.ctx, ast.Load)}
+            local |= {node.arg for node in ast.walk(tree) if isinstance(node, ast.arg)}
+            with self.subTest(file=name):
+                self.assertEqual(taken & local, set())
+
+    def test_no_generator_expressions(self):
+        # Once a class compares or has a length, any, all, sum and the like must not take a generator expression.
+        self.assertEqual([(name, node.lineno) for name, node in nodes(ast.GeneratorExp)], [])
+
     def test_names_of_builtins(self):
         for name, node in nodes(ast.Name):
             if node.id in vars(builtins):

@@ -1,33 +1,15 @@
-import copy
 import itertools
 import unittest
 
 from passyards.errors import NoTrain
-from passyards.lines import capacity, counts, is_line, is_standing, place_of, trains
+from passyards.lines import capacity, copied, counts, is_exactly, is_line, is_standing, place_of, trains
 from samples import LINE, START, WIDE, WIDE_START, as_lists
-
-# Values of every kind that a thing may have, none of which is a LINE or a STANDING.
-STRANGE = [0, 1, -1, 2, 10 ** 9, True, False, None, "", "a", "ab", "track", "yard", "track 2",
-           [], [[]], [()], [0], ["track", 2], ((((((1,),),),),),), ((((((),),),),),), [[[[[[1]]]]]],
-           (("track", 2), None), (None,), (True,), (False,), ("",), ("track",), (1,)]
-
+from things import STRANGE, Thing, near_misses
 
 def rows(parts, longest):
     """All tuples and all lists of the parts, up to that length."""
     return [kind(row) for many in range(longest + 1) for row in itertools.product(parts, repeat=many)
             for kind in (tuple, list)]
-
-
-class Thing(unittest.TestCase):
-    def check(self, answer, expected):
-        self.assertIs(answer, expected)
-
-    def all_of(self, wrong, ask):
-        for thing in wrong:
-            before = copy.deepcopy(thing)
-            with self.subTest(thing=thing):
-                self.check(ask(thing), False)
-                self.assertEqual(repr(thing), repr(before))
 
 
 class IsLine(Thing):
@@ -48,7 +30,7 @@ class IsLine(Thing):
         self.check(is_line(()), False)
 
     def test_strange_values(self):
-        self.all_of(STRANGE, is_line)
+        self.all_of(STRANGE + [[]], is_line)
 
     def test_sizes(self):
         for size in (0, -1, -30, True, False, None, "2", "", (2,), [2], (), []):
@@ -103,7 +85,7 @@ class IsStanding(Thing):
 
     def test_strange_values(self):
         for line in (LINE, (("track", 1),), (("yard", 2),)):
-            self.all_of(STRANGE, lambda thing: is_standing(line, thing))
+            self.all_of(STRANGE + [[]], lambda thing: is_standing(line, thing))
 
     def test_strange_trains(self):
         for train in (True, False, None, "", "1", "ab", -1, -(10 ** 9), (), (1,), [], [1]):
@@ -144,6 +126,17 @@ class IsStanding(Thing):
         pool = itertools.chain(itertools.product(held, few), itertools.product(few, held))
         found = {repr(thing) for thing in pool if is_standing(line, thing) is not False}
         self.assertEqual(found, right)
+
+
+class IsExactly(Thing):
+    def test_the_same_kinds_at_each_depth(self):
+        for value in (0, 1, 10 ** 5000, (), (0, (1, 2), ()), ((1,), (0,))):
+            self.check(is_exactly(value, value), True)
+
+    def test_other_things(self):
+        for value in (0, 1, (0, (1, 2)), (1, (0,), (5, 7))):
+            self.all_of([thing for thing in STRANGE if repr(thing) != repr(value)] + near_misses(value),
+                        lambda thing: is_exactly(thing, value))
 
 
 class Facts(unittest.TestCase):
@@ -189,6 +182,12 @@ class Facts(unittest.TestCase):
         self.assertEqual(counts(standing=[[], [7], [1, 2, 3]]), (0, 1, 3))
         self.assertEqual(counts(((), ())), (0, 0))
         self.assertEqual(counts(WIDE_START), (2,) * 15 + (0,))
+
+    def test_copied(self):
+        standing = [[2, 1], (3, 4), []]
+        self.assertEqual(copied(standing), ((2, 1), (3, 4), ()))
+        self.assertEqual(copied(START), START)
+        self.assertEqual(standing, [[2, 1], (3, 4), []])
 
     def test_kinds_of_values(self):
         self.assertIs(type(trains(START)), list)
