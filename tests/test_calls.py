@@ -13,15 +13,20 @@ SEEN = [(7, 0), (8, 0), (9, 0)]
 # Values of the arguments; each call of a function takes one row.
 ROWS = [
     {"line": LINE, "standing": START, "train": 3, "side": "right", "move": (4, "right"), "row": ROW, "many": 5,
-     "one": START, "other": NEAR, "sightings": SEEN, "thing": START},
+     "one": START, "other": NEAR, "sightings": SEEN, "thing": START, "number": 7, "wish": {4: 0, 2: 2}, "place": 1,
+     "size": 5},
     {"line": LINE, "standing": NEAR, "train": 4, "side": "left", "move": (1, "right"), "row": [], "many": 4,
-     "one": NEAR, "other": FAR, "sightings": SEEN[:2], "thing": (0, (1,), (2,))},
+     "one": NEAR, "other": FAR, "sightings": SEEN[:2], "thing": (0, (1,), (2,)), "number": 12, "wish": {1: 1},
+     "place": 3, "size": 1},
     {"line": WIDE, "standing": WIDE_START, "train": 0, "side": "right", "move": (29, "right"), "many": 30,
      "row": [(29, "right"), (29, "left")] * 3, "one": WIDE_START, "other": WIDE_START, "thing": [],
-     "sightings": [(train, train % 16) for train in range(30)]},
+     "sightings": [(train, train % 16) for train in range(30)], "number": 10 ** 20, "place": 15, "size": 30,
+     "wish": {train: train % 16 for train in range(30)}},
 ]
 # Here one and other are trains, not standings.
 PAIRS = {"may_meet": (2, 4), "ever_ahead": (1, 4)}
+# What each of these reads.
+TEXTS = {"line_in": "T2 Y2 T1", "standing_in": "1 2 | 3 4 | -", "row_in": "4> 2<"}
 
 
 def calls():
@@ -29,9 +34,11 @@ def calls():
     for functions in FUNCTIONS:
         for name, parameters in FUNCTIONS[functions].items():
             for row in ROWS:
-                told = {parameter: copy.deepcopy(row[parameter]) for parameter in parameters}
+                told = {parameter: copy.deepcopy(row[parameter]) for parameter in parameters if parameter != "text"}
                 if name in PAIRS:
                     told["one"], told["other"] = PAIRS[name]
+                if name in TEXTS:
+                    told["text"] = TEXTS[name]
                 yield getattr(functions, name), told
 
 
@@ -39,7 +46,7 @@ def answer_of(function, told):
     """What the call returns, or the class and the values of what it raises, written out with all kinds."""
     try:
         return repr(function(**told))
-    except (LookupError, RuntimeError) as error:
+    except (ValueError, LookupError, RuntimeError, OverflowError) as error:
         return repr((type(error), vars(error)))
 
 
@@ -115,10 +122,11 @@ class Calls(unittest.TestCase):
 
 
 def empty_out(value):
-    """Takes everything out of a list, and out of the lists in it."""
+    """Takes everything out of a list, and out of the lists in it, or out of a dict."""
     if isinstance(value, list):
         for part in value:
             empty_out(part)
+    if isinstance(value, (list, dict)):
         value.clear()
 
 

@@ -1,7 +1,8 @@
 import inspect
 import unittest
 
-from passyards import blocks, errors, leading, limits, lines, moves, reach, sightings
+from passyards import (blocks, counting, errors, leading, limits, lines, moves, reach, sightings, sizes, texts,
+                       wishes)
 
 FUNCTIONS = {
     lines: {"is_line": ["thing"], "is_standing": ["line", "thing"], "capacity": ["line"], "trains": ["standing"],
@@ -18,6 +19,15 @@ FUNCTIONS = {
     sightings: {"fits": ["line", "many", "sightings"], "overfull": ["line", "many", "sightings"],
                 "shows_run": ["line", "many", "sightings", "thing"],
                 "blocks_for": ["line", "many", "sightings", "train"]},
+    counting: {"reachable_many": ["line", "standing"], "standings_many": ["line", "many"],
+               "lots_many": ["line", "many"], "reachable_at": ["line", "standing", "number"],
+               "number_of": ["line", "standing", "other"]},
+    wishes: {"cuts": ["line", "standing", "wish"], "granted": ["line", "standing", "wish"],
+             "shows_cuts": ["line", "standing", "wish", "thing"]},
+    sizes: {"with_size": ["line", "place", "size"], "is_free": ["line", "many"],
+            "least_size": ["line", "many", "place"], "most_trains": ["line"], "joining_places": ["line", "many"]},
+    texts: {"line_text": ["line"], "standing_text": ["standing"], "row_text": ["row"], "line_in": ["text"],
+            "standing_in": ["line", "text"], "row_in": ["text"]},
 }
 
 
@@ -38,7 +48,8 @@ class Interface(unittest.TestCase):
     def test_modules_have_their_names(self):
         self.assertEqual([module.__name__ for module in (errors, limits, *FUNCTIONS)],
                          ["passyards." + name for name in ("errors", "limits", "lines", "blocks", "moves", "leading",
-                                                           "reach", "sightings")])
+                                                           "reach", "sightings", "counting", "wishes", "sizes",
+                                                           "texts")])
 
 
 if __name__ == "__main__":

@@ -43,6 +43,9 @@ class Language(unittest.TestCase):
         for name, node in nodes(ast.ImportFrom):
             with self.subTest(file=name, line=node.lineno):
                 self.assertEqual(node.level, 0)
+                if node.module == "math":
+                    self.assertLessEqual({alias.name for alias in node.names}, {"comb", "factorial"})
+                    continue
                 package, file = node.module.split(".")
                 self.assertEqual(package, "passyards")
                 defined = {part.name for part in TREES[file + ".py"].body if hasattr(part, "name")}
