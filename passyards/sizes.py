@@ -14,7 +14,7 @@ def with_size(line, place, size):
 
 def is_free(line, many):
     """Whether many trains have one block at most."""
-    # The spans ascend, so a position that is no joint by now will not become one by a later yard.
+    # The first position that no yard so far makes a joint. As the spans ascend, one that begins behind it is too late.
     joined = 0
     for low, high in mixing_spans(line, many):
         if low <= joined:
@@ -22,19 +22,40 @@ def is_free(line, many):
     return joined >= many - 1
 
 
+# A joint stays one if a place grows, and if there is one train less, as long as both its positions hold trains. So the
+# two functions below look for the one number at which the answer changes, by halving: sizes may be very large.
+
+
+def suits(line, many):
+    """Whether many trains have room on the line, and one block at most."""
+    return many <= capacity(line) and is_free(line, many)
+
+
 def least_size(line, many, place):
     """The least size of that place for which there is room and is_free holds, or None; raises NoPlace(place)."""
-    # With room for all trains and for two that pass each other, a place is as good as with any more room.
-    for size in range(1, max(many, 2) + 1):
-        tried = with_size(line, place, size)
-        if many <= capacity(tried) and is_free(tried, many):
-            return size
-    return None
+    # With room for all trains, a place is as good as with any more room.
+    low, high = 1, max(many, 1)
+    if not suits(with_size(line, place, high), many):
+        return None
+    while low < high:
+        middle = (low + high) // 2
+        if suits(with_size(line, place, middle), many):
+            high = middle
+        else:
+            low = middle + 1
+    return low
 
 
 def most_trains(line):
     """The greatest number of trains, at most the capacity, for which is_free holds."""
-    return max([many for many in range(capacity(line) + 1) if is_free(line, many)])
+    low, high = 1, capacity(line)
+    while low < high:
+        middle = (low + high + 1) // 2
+        if is_free(line, middle):
+            low = middle
+        else:
+            high = middle - 1
+    return low
 
 
 def joining_places(line, many):

@@ -63,6 +63,24 @@ def reached(line, standing):
     return found
 
 
+def least_rows(line, standing):
+    """For each standing to which this one leads, the first of the shortest rows, as lists ascend."""
+    found = {standing: []}
+    newest = [standing]
+    while newest:
+        further = {}
+        for now in newest:
+            for train in sorted(train for held in now for train in held):
+                for side in ("left", "right"):
+                    after = step(line, now, where(now, train), train, 1 if side == "right" else -1)
+                    if after is not None and after not in found:
+                        row = found[now] + [(train, side)]
+                        further[after] = min(further.get(after, row), row)
+        found.update(further)
+        newest = list(further)
+    return found
+
+
 def fillings(line, row):
     """All standings in which the trains stand in this order, place by place."""
     if not line:

@@ -8,6 +8,7 @@ from test_interface import FUNCTIONS
 
 NEAR = ((1, 3), (4,), (2,))
 FAR = ((2, 1), (3, 4), ())
+STEP = ((1,), (2, 3), (4,))
 ROW = [(4, "right"), (2, "right"), (3, "left")]
 SEEN = [(7, 0), (8, 0), (9, 0)]
 # Values of the arguments; each call of a function takes one row.
@@ -22,11 +23,15 @@ ROWS = [
      "row": [(29, "right"), (29, "left")] * 3, "one": WIDE_START, "other": WIDE_START, "thing": [],
      "sightings": [(train, train % 16) for train in range(30)], "number": 10 ** 20, "place": 15, "size": 30,
      "wish": {train: train % 16 for train in range(30)}},
+    {"line": LINE, "standing": FAR, "train": 1, "side": "right", "move": (3, "right"), "many": 0, "row": ROW[:1],
+     "one": START, "other": STEP, "thing": [(4, "right"), (2, "right")], "sightings": [], "number": 0, "wish": {},
+     "place": 0, "size": 2},
 ]
 # Here one and other are trains, not standings.
 PAIRS = {"may_meet": (2, 4), "ever_ahead": (1, 4)}
 # What each of these reads.
-TEXTS = {"line_in": "T2 Y2 T1", "standing_in": "1 2 | 3 4 | -", "row_in": "4> 2<"}
+TEXTS = {"line_in": "T2 Y2 T1", "standing_in": "1 2 | 3 4 | -", "row_in": "4> 2<",
+         "answers": "line Y2 T1\nenter 4 left\nshow\nmove 4 right\nmoves\nleave 7\nundo"}
 
 
 def calls():

@@ -1,8 +1,8 @@
 import inspect
 import unittest
 
-from passyards import (blocks, counting, errors, leading, limits, lines, moves, reach, sightings, sizes, texts,
-                       wishes)
+from passyards import (blocks, counting, errors, fewest, leading, limits, lines, moves, reach, sheet, sightings, sizes,
+                       small, texts, wishes, yard)
 
 FUNCTIONS = {
     lines: {"is_line": ["thing"], "is_standing": ["line", "thing"], "capacity": ["line"], "trains": ["standing"],
@@ -28,6 +28,11 @@ FUNCTIONS = {
             "least_size": ["line", "many", "place"], "most_trains": ["line"], "joining_places": ["line", "many"]},
     texts: {"line_text": ["line"], "standing_text": ["standing"], "row_text": ["row"], "line_in": ["text"],
             "standing_in": ["line", "text"], "row_in": ["text"]},
+    fewest: {"reversed_pairs": ["line", "one", "other"], "fewest": ["line", "one", "other"],
+             "fewest_row": ["line", "one", "other"], "shows_fewest": ["line", "one", "other", "thing"]},
+    small: {"all_from": ["line", "standing"], "distance": ["line", "one", "other"],
+            "first_row": ["line", "one", "other"]},
+    sheet: {"answers": ["text"]},
 }
 
 
@@ -46,10 +51,10 @@ class Interface(unittest.TestCase):
                         self.assertIs(parameter.default, inspect.Parameter.empty)
 
     def test_modules_have_their_names(self):
-        self.assertEqual([module.__name__ for module in (errors, limits, *FUNCTIONS)],
-                         ["passyards." + name for name in ("errors", "limits", "lines", "blocks", "moves", "leading",
-                                                           "reach", "sightings", "counting", "wishes", "sizes",
-                                                           "texts")])
+        self.assertEqual([module.__name__ for module in (errors, limits, yard, *FUNCTIONS)],
+                         ["passyards." + name for name in (
+                             "errors", "limits", "yard", "lines", "blocks", "moves", "leading", "reach", "sightings",
+                             "counting", "wishes", "sizes", "texts", "fewest", "small", "sheet")])
 
 
 if __name__ == "__main__":

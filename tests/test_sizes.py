@@ -129,7 +129,7 @@ class LeastSize(unittest.TestCase):
     def test_above_the_present_capacity(self):
         self.assertEqual(least_size((("yard", 1),), 30, 0), 30)
         self.assertEqual(least_size((("track", 1), ("yard", 1)), 30, 1), 30)
-        self.assertEqual(least_size((("track", 5), ("yard", 1)), 30, 1), least_by_hand((("track", 5), ("yard", 1)), 30, 1))
+        self.assertEqual(least_size((("track", 5), ("yard", 1)), 30, 1), 30)
         self.assertEqual(least_size((("yard", 2), ("track", 1)), 5, 1), None)
         self.assertEqual(least_size(LINE, 30, 1), 29)
 
@@ -138,7 +138,7 @@ class LeastSize(unittest.TestCase):
         self.assertEqual([least_size(line, many, 1) for many in range(12)], [1] * 10 + [None, None])
 
     def test_all_small_lines(self):
-        for line in small_lines() + longer_lines()[::3]:
+        for line in small_lines() + longer_lines()[::2]:
             for many in range(min(capacity(line), 9) + 4):
                 for place in range(len(line)):
                     self.assertEqual(least_size(line, many, place), least_by_hand(line, many, place))
@@ -181,6 +181,14 @@ class MostTrains(unittest.TestCase):
     def test_wide(self):
         self.assertEqual(most_trains((("yard", 30),) * 16), 479)
         self.assertEqual(most_trains(WIDE), max(many for many in range(481) if in_one_block(WIDE, many)))
+
+    def test_sizes_that_were_read_from_a_text(self):
+        most = 9999999999
+        self.assertEqual(most_trains((("yard", most),)), most)
+        self.assertEqual(most_trains((("track", most), ("track", most))), 1)
+        self.assertEqual(most_trains((("track", 3), ("yard", most), ("track", 1))), most + 1)
+        self.assertEqual(least_size((("track", 3), ("yard", 1), ("track", 1)), most, 1), most - 1)
+        self.assertEqual(joining_places((("yard", most), ("yard", 1)), 30), [])
 
     def test_by_name_and_with_lists(self):
         self.assertEqual(most_trains(line=as_lists(LINE)), 3)

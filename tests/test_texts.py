@@ -10,8 +10,9 @@ from search import every_standing, small_lines
 EMPTY = ((), (), ())
 # Digits that are not ASCII: a superscript, Arabic-Indic, full width, and a letter that means a number.
 ODD_DIGITS = ["\u00b2", "\u0663", "\uff13", "\u2163"]
-BAD_NUMBERS = ["", " ", "-1", "+1", "-0", "01", "00", "007", "1.0", "1_0", "0x1", "1e3", "a", "1a", "a1", "12345678901",
-               "00000000001", "1" * 5000, "1\n", "\t1", "1\t", "1,2", "--", "None", "\u22121", "1\u00a0"] + ODD_DIGITS
+BAD_NUMBERS = ["", " ", "-1", "+1", "-0", "01", "00", "007", "1.0", "1_0", "0x1", "1e3", "a", "1a", "a1", "1x",
+               "12345678901", "00000000001", "1" * 5000, "1\n", "\t1", "1\t", "1,2", "--", "None", "\u22121",
+               "1\u00a0"] + ODD_DIGITS
 
 
 class Bad(unittest.TestCase):
